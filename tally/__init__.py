@@ -1,0 +1,1 @@
+"""Tally: games scored by told rules, and what may still come."""
