@@ -1,5 +1,7 @@
 """Rules of rallies: whether a thing is one, and how deep one is."""
 
+from tally.wholes import is_whole
+
 MOST = 99
 MOST_UNITS = 10
 MOST_DEPTH = 4
@@ -42,13 +44,8 @@ def has_unit_form(thing):
         return False
     to = thing[1]
     cap = thing[3]
-    if not is_bounded(to, 1) or not is_bounded(thing[2], 1):
+    if not is_whole(to, 1, MOST) or not is_whole(thing[2], 1, MOST):
         return False
     if cap is None:
         return thing[5] is None
-    return is_bounded(cap, to)
-
-
-def is_bounded(thing, least):
-    # Python counts truths among the ints; here they are no whole numbers.
-    return isinstance(thing, int) and not isinstance(thing, bool) and least <= thing <= MOST
+    return is_whole(cap, to, MOST)

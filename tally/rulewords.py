@@ -1,7 +1,8 @@
 """Rules of rallies written as words, and read again."""
 
 from tally.errors import BadWord
-from tally.rules import MOST_DEPTH, MOST_UNITS, POINT
+from tally.rules import MOST, MOST_DEPTH, MOST_UNITS, POINT
+from tally.wholes import writes_whole
 
 
 def show_rule(rule):
@@ -23,15 +24,6 @@ def words_of(rule):
     words.extend(words_of(rule[4]))
     words.extend(["-"] if rule[5] is None else words_of(rule[5]))
     return words
-
-
-def is_number_from(word, least):
-    # No longer word is turned into a number: two figures are at most 99.
-    if len(word) not in (1, 2) or word[0] == "0":
-        return False
-    if not all(["0" <= sign <= "9" for sign in word]):
-        return False
-    return int(word) >= least
 
 
 # Goes over the words once, from left to right, and refuses the first one that
@@ -73,7 +65,7 @@ class RuleReader:
 
     def read_number(self, least):
         word = self.word_here()
-        if not is_number_from(word, least):
+        if not writes_whole(word, least, MOST):
             raise BadWord(self.spot)
         self.spot += 1
         return int(word)

@@ -1,6 +1,7 @@
 import copy
 import unittest
 
+from samples import same
 from tally.errors import BadWord
 from tally.rules import is_rule
 from tally.rulewords import read_rule, show_rule
@@ -77,15 +78,6 @@ def first_wrong_word(text):
     return len(words) if pile else None
 
 
-def alike(one, other):
-    # Truths equal 0 and 1 for Python, so kinds are asked for as well.
-    if type(one) is not type(other):
-        return False
-    if isinstance(one, tuple):
-        return len(one) == len(other) and all(alike(a, b) for a, b in zip(one, other))
-    return one == other
-
-
 class WordsCase(unittest.TestCase):
     def refused(self, text, at):
         with self.assertRaises(BadWord, msg=repr(text)) as caught:
@@ -105,14 +97,14 @@ class Written(WordsCase):
 
     def test_read(self):
         for rule, text in WRITTEN:
-            self.assertTrue(alike(read_rule(text), rule), text)
+            self.assertTrue(same(read_rule(text), rule), text)
 
     def test_read_and_shown_again(self):
         for text in BASES:
             rule = read_rule(text)
             self.assertIs(is_rule(rule), True)
             self.assertEqual(show_rule(rule), text)
-            self.assertTrue(alike(read_rule(show_rule(rule)), rule))
+            self.assertTrue(same(read_rule(show_rule(rule)), rule))
 
     def test_every_number(self):
         for number in range(1, 100):
@@ -122,14 +114,14 @@ class Written(WordsCase):
                 (("unit", 1, 1, number, POINT, None), f"unit 1 1 {number} point -"),
             ]:
                 self.assertEqual(show_rule(rule), text)
-                self.assertTrue(alike(read_rule(text), rule), text)
+                self.assertTrue(same(read_rule(text), rule), text)
 
     def test_what_is_handed_in_stays(self):
         before = copy.deepcopy(WRITTEN)
         for rule, text in WRITTEN:
             show_rule(rule)
             read_rule(text)
-        self.assertTrue(all(alike(one, other) for one, other in zip(WRITTEN, before)))
+        self.assertTrue(all(same(one, other) for one, other in zip(WRITTEN, before)))
 
 
 class Refused(WordsCase):
