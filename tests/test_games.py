@@ -8,8 +8,8 @@ from tally.errors import NoPins, NoSide, NoThrow, Over
 from tally.games import deeds_at, first, is_game, place_of, played, shown, sides_of
 from tally.lanes import lane_begun, lane_bowled
 from tally.rallies import begun, cut, rallied
+from walks import THROWS, after, walk
 
-THROWS = (("two", 2, True), ("one", 1, False), ("nil", 0, True), ("three", 3, True))
 DOWNS = [(sides, begin, turn, THROWS) for sides in (1, 2, 3) for begin in (1, 7) for turn in (1, 2, 3)]
 LANES = [(sides, pins, frames) for sides in (1, 2, 3) for pins in (1, 4, 20) for frames in (1, 2, 12)]
 MATCH = ("rally", unit(2, 1, None, TENNIS_SET))
@@ -19,23 +19,6 @@ GAMES = (
     [("rally", rule) for rule in RULES] + [("down", down) for down in DOWNS] + [("lane", lane) for lane in LANES]
 )
 NO_TEXTS = [thing for thing in THINGS if not isinstance(thing, str)]
-
-
-def after(game, deeds):
-    stand = first(game)
-    for deed in deeds:
-        stand = played(game, stand, deed)
-    return stand
-
-
-def walk(game, source, most):
-    """The stands of a game along a row of deeds that are let, the first one first."""
-    stand = first(game)
-    stands = [stand]
-    while stand[1] is None and len(stands) <= most:
-        stand = played(game, stand, source.choice(deeds_at(game, stand)))
-        stands.append(stand)
-    return stands
 
 
 def won_game(game):
