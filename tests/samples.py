@@ -1,6 +1,8 @@
 """What several tests draw on: things of all kinds, rules of rallies, and rows of rallies."""
 
+import copy
 import random
+import unittest
 
 POINT = ("point",)
 GREAT = 10 ** 60 - 1
@@ -30,6 +32,17 @@ def same(one, other):
     if isinstance(one, (tuple, list)):
         return len(one) == len(other) and all(same(a, b) for a, b in zip(one, other))
     return one == other
+
+
+class RefusalCase(unittest.TestCase):
+    def refused(self, refusal, ask, *handed):
+        """Asked, it refuses by just this class and leaves what is handed in; tells the refusal."""
+        before = copy.deepcopy(handed)
+        with self.assertRaises(refusal, msg=repr(handed)) as caught:
+            ask(*handed)
+        self.assertIs(type(caught.exception), refusal)
+        self.assertTrue(same(handed, before))
+        return caught.exception
 
 
 def unit(to=1, lead=1, cap=None, inner=POINT, last=None):

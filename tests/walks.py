@@ -2,9 +2,8 @@
 
 import copy
 import random
-import unittest
 
-from samples import POINT, same, unit
+from samples import POINT, RefusalCase, same, unit
 from tally.errors import TooMany
 from tally.games import deeds_at, first, place_of, played
 
@@ -104,15 +103,8 @@ def plain_walk(game, stand):
 FAR = ("down", (1, 5000, 1, (("all", 5000, True), ("one", 1, True))))
 
 
-class PlacesCase(unittest.TestCase):
+class PlacesCase(RefusalCase):
     """ask is one of the functions that walk over places: ask(game, stand), or ask(game, stand, limit)."""
-
-    def refused(self, refusal, ask, *handed):
-        before = copy.deepcopy(handed)
-        with self.assertRaises(refusal, msg=repr(handed)) as caught:
-            ask(*handed)
-        self.assertIs(type(caught.exception), refusal)
-        self.assertTrue(same(handed, before))
 
     def keeps_to_its_limit(self, ask):
         self.goes_by_the_limit(ask)
